@@ -1,0 +1,1 @@
+"""Lampforge: plans of wires forged to gates, with papers that the lamps stay the same."""
