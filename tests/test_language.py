@@ -1,4 +1,8 @@
-"""The package keeps to the small part of Python that the project is written in (rules L1 to L28)."""
+"""The package keeps to the small part of Python that the project is written in, as far as is looked at here.
+
+Not looked at are L11, L13, L26 and L28, and of L15, L17 to L19, L22 to L24 and L27 only what a single
+statement or value shows: these are for the reader.
+"""
 
 import ast
 import builtins
