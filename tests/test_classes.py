@@ -3,29 +3,7 @@ import time
 import unittest
 
 from lampforge.classes import Classes
-
-
-class Plain:
-    """The same, by walking through all ends."""
-
-    def __init__(self, knots):
-        self.groups = {end: [end] for end in range(2 * knots)}
-
-    def alike(self, one, other):
-        return other in self.groups[one]
-
-    def join(self, one, other):
-        if self.alike(one, other ^ 1):
-            return False
-        if not self.alike(one, other):
-            for left, right in ((one, other), (one ^ 1, other ^ 1)):
-                group = self.groups[left] + self.groups[right]
-                for end in group:
-                    self.groups[end] = group
-        return True
-
-    def least(self, end):
-        return min(self.groups[end])
+from tests.things import PlainClasses
 
 
 class ClassesTest(unittest.TestCase):
@@ -37,13 +15,13 @@ class ClassesTest(unittest.TestCase):
                 self.assertIs(classes.alike(one, other), plain.alike(one, other))
 
     def test_none_joined(self):
-        self.same(Classes(4), Plain(4), 4)
-        self.same(Classes(1), Plain(1), 1)
+        self.same(Classes(4), PlainClasses(4), 4)
+        self.same(Classes(1), PlainClasses(1), 1)
 
     def test_one_join(self):
         for one in range(8):
             for other in range(8):
-                classes, plain = Classes(4), Plain(4)
+                classes, plain = Classes(4), PlainClasses(4)
                 self.assertIs(classes.join(one, other), plain.join(one, other))
                 self.assertIs(classes.alike(one, other), one != other ^ 1)
                 self.same(classes, plain, 4)
@@ -53,10 +31,10 @@ class ClassesTest(unittest.TestCase):
         self.assertIs(classes.join(2, 3), False)
         self.assertIs(classes.join(0, 1), False)
         self.assertIs(classes.join(4, 4), True)
-        self.same(classes, Plain(3), 3)
+        self.same(classes, PlainClasses(3), 3)
 
     def test_what_can_not_be_joined_leaves_all_as_it_was(self):
-        classes, plain = Classes(6), Plain(6)
+        classes, plain = Classes(6), PlainClasses(6)
         for one, other in ((2, 5), (4, 9), (6, 10), (1, 11)):
             self.assertIs(classes.join(one, other), True)
             plain.join(one, other)
@@ -69,7 +47,7 @@ class ClassesTest(unittest.TestCase):
         rng = random.Random(1)
         for turn in range(150):
             knots = rng.randint(1, 9)
-            classes, plain = Classes(knots), Plain(knots)
+            classes, plain = Classes(knots), PlainClasses(knots)
             for step in range(rng.randrange(14)):
                 one, other = rng.randrange(2 * knots), rng.randrange(2 * knots)
                 self.assertIs(classes.join(one, other), plain.join(one, other))

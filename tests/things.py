@@ -1,7 +1,13 @@
 """Things that several tests hand in: right ones by their kinds, and wrong ones; and plain ways to reckon."""
 
+import copy
+import itertools
+
+from lampforge import nets
 from lampforge.errors import ForgeError
+from lampforge.papers import look_two
 from lampforge.sayings import wires_in
+from lampforge.works import beside, is_work
 from lampforge.worths import worth
 
 WORDS = ("wire", "number", "not", "and", "or", "odd", "sum", "less", "under", "same", "choice", "up", "down",
@@ -309,3 +315,190 @@ def plain_bits(work, beats):
 def ends_of_bits(numbers, ports):
     """The bits of numbers of told widths, each one's lowest first."""
     return [number // 2 ** place % 2 for number, (name, width) in zip(numbers, ports) for place in range(width)]
+
+
+# Papers, and whether they hold.
+
+
+class PlainClasses:
+    """Which ends are alike, by walking through all of them."""
+
+    def __init__(self, knots):
+        self.groups = {end: [end] for end in range(2 * knots)}
+
+    def alike(self, one, other):
+        return other in self.groups[one]
+
+    def join(self, one, other):
+        if self.alike(one, other ^ 1):
+            return False
+        if not self.alike(one, other):
+            for left, right in ((one, other), (one ^ 1, other ^ 1)):
+                group = self.groups[left] + self.groups[right]
+                for end in group:
+                    self.groups[end] = group
+        return True
+
+    def least(self, end):
+        return min(self.groups[end])
+
+
+def is_plain_step(net, classes, step):
+    if type(step) is not tuple or len(step) != 4:
+        return False
+    word, one, other, leaves = step
+    if type(word) is not str or word not in ("stands", "row") or type(leaves) is not tuple:
+        return False
+    if len(leaves) > (6 if word == "stands" else 64):
+        return False
+    if any(type(end) is not int or not 0 <= end < 2 * (1 + net[0] + len(net[1])) for end in (one, other) + leaves):
+        return False
+    for place, leaf in enumerate(leaves):
+        near = (0, 1) + tuple(end ^ turn for end in leaves[:place] for turn in (0, 1))
+        if any(classes.alike(leaf, end) for end in near):
+            return False
+    return True
+
+
+def plain_good(net, classes, step):
+    """Whether a thing is a good step, as the document says it, stand by stand."""
+    if not is_plain_step(net, classes, step):
+        return False
+    word, one, other, leaves = step
+
+    def gate_of(end):
+        return net[1][end // 2 - net[0] - 1] if end // 2 > net[0] else None
+    if word == "row":
+        found = {}
+
+        def comes_to(end):
+            if end not in found:
+                found[end] = set_of(end)
+            return found[end]
+
+        def set_of(end):
+            if classes.alike(end, 0):
+                return "low"
+            if classes.alike(end, 1):
+                return frozenset()
+            for leaf in leaves:
+                for turn in (0, 1):
+                    if classes.alike(end, leaf ^ turn):
+                        return frozenset([leaf ^ turn])
+            if end % 2 == 1 or gate_of(end) is None:
+                return None
+            sets = [comes_to(below) for below in gate_of(end)]
+            if "low" in sets:
+                return "low"
+            if None in sets:
+                return None
+            both = sets[0] | sets[1]
+            return "low" if any(leaf ^ 1 in both for leaf in both) else both
+        return comes_to(one) is not None and comes_to(one) == comes_to(other)
+    for bits in itertools.product((0, 1), repeat=len(leaves)):
+        found = {}
+
+        def bit_of(end):
+            if end not in found:
+                found[end] = bit_at(end)
+            return found[end]
+
+        def bit_at(end):
+            for turn in (0, 1):
+                if classes.alike(end, turn):
+                    return turn
+                for leaf, bit in zip(leaves, bits):
+                    if classes.alike(end, leaf ^ turn):
+                        return bit ^ turn
+            if gate_of(end) is None:
+                return None
+            below = [bit_of(ahead) for ahead in gate_of(end)]
+            return None if None in below else (below[0] * below[1]) ^ (end % 2)
+        if bit_of(one) is None or bit_of(one) != bit_of(other):
+            return False
+    return True
+
+
+def plain_look(work, goals, paper):
+    """None where a paper is let by, or where it fails and at which number."""
+    if type(paper) is not tuple or len(paper) != 4 or any(type(part) not in (list, tuple) for part in paper):
+        return ("paper", 0)
+    kept, starts, nexts, nows = paper
+    ends = range(2 * (1 + work[0] + len(work[1]) + len(work[2])))
+    for number, pair in enumerate(kept):
+        if type(pair) is not tuple or len(pair) != 2 or any(type(end) is not int or end not in ends for end in pair):
+            return ("kept", number)
+
+    def walk(net, steps, where, first, become, dues):
+        classes = PlainClasses(1 + net[0] + len(net[1]))
+        for number, (one, other) in enumerate(first):
+            if not classes.join(one, other):
+                return ("kept", number)
+        for number, step in enumerate(steps):
+            if not plain_good(net, classes, step) or not classes.join(step[1], step[2]):
+                return (where, number)
+        if any(not classes.alike(become(work, one), become(work, other)) for one, other in dues):
+            return (where, len(steps))
+        return None
+    now = [(nets.now_end(work, one), nets.now_end(work, other)) for one, other in kept]
+    return (walk(nets.start_net(work), starts, "start", [], nets.start_end, kept)
+            or walk(nets.next_net(work), nexts, "next", now, nets.then_end, kept)
+            or walk(nets.now_net(work), nows, "now", kept, lambda whole, end: end, goals))
+
+
+def goals_of(one, other):
+    """The outs of two works beside one another, out by out."""
+    outs = beside(one, other)[3]
+    return list(zip(outs[:len(one[3])], outs[len(one[3]):]))
+
+
+def same_runs(one, other):
+    """Whether two small works tell the same at each beat of each run, by walking through all joint stands."""
+    seen = {tuple(tuple(first for first, end in work[1]) for work in (one, other))}
+    waiting = sorted(seen)
+    while waiting:
+        stands = waiting.pop()
+        for row in itertools.product((0, 1), repeat=one[0]):
+            told = [plain_beat(work, stand, row) for work, stand in zip((one, other), stands)]
+            if told[0][0] != told[1][0]:
+                return False
+            later = tuple(tuple(stand) for outs, stand in told)
+            if later not in seen:
+                seen.add(later)
+                waiting.append(later)
+    return True
+
+
+def own_lists(thing):
+    """All lists within a thing, itself too."""
+    found = [thing] if type(thing) is list else []
+    for piece in thing if type(thing) in (list, tuple) else ():
+        found.extend(own_lists(piece))
+    return found
+
+
+def check_pass(case, call, work, beats, small=True):
+    """What is asked of each pass; told is the new work."""
+    before = copy.deepcopy(work)
+    told = call(work)
+    case.assertIs(type(told), tuple)
+    case.assertEqual(len(told), 2)
+    new, paper = told
+    case.assertTrue(is_work(new))
+    case.assertEqual((new[0], len(new[3])), (work[0], len(work[3])))
+    case.assertEqual(plain_bits(new, beats), plain_bits(work, beats), work)
+    case.assertEqual([type(part) for part in paper], [list] * 4)
+    case.assertIsNone(look_two(work, new, paper))
+    if small:
+        case.assertIsNone(plain_look(beside(work, new), goals_of(work, new), paper))
+        case.assertTrue(same_runs(work, new))
+    lists = own_lists(told)
+    case.assertEqual(len({id(thing) for thing in lists}), len(lists))
+    case.assertFalse({id(thing) for thing in lists} & {id(thing) for thing in own_lists(work)})
+    kept = copy.deepcopy(told)
+    for thing in lists:
+        thing.append(None)
+    case.assertEqual(work, before)
+    again = call(work)
+    case.assertIsNone(look_two(work, again[0], again[1]))
+    return kept[0]
