@@ -39,17 +39,15 @@ class Bench:
 
     def both(self, a, b):
         """An end that is 1 where both are."""
-        low = min(a, b)
-        high = max(a, b)
-        if low == 0 or low ^ 1 == high:
-            return 0
-        if low == 1 or low == high:
-            return high
-        if (low, high) not in self.known_gates:
-            self.gates.append((low, high))
+        end = both_without_gate(a, b)
+        if end is not None:
+            return end
+        gate = (min(a, b), max(a, b))
+        if gate not in self.known_gates:
+            self.gates.append(gate)
             self.gate_knots.append(self.knots)
-            self.known_gates[(low, high)] = self.new_knot()
-        return self.known_gates[(low, high)]
+            self.known_gates[gate] = self.new_knot()
+        return self.known_gates[gate]
 
     def either(self, a, b):
         """An end that is 1 where one of both is."""
@@ -75,6 +73,17 @@ class Bench:
             boxes.append((first, placed(places, self.drivers.get(knot, 2 * knot))))
         gates = [(placed(places, one), placed(places, other)) for one, other in self.gates]
         return (self.ins, boxes, gates, [placed(places, end) for end in outs])
+
+
+def both_without_gate(a, b):
+    """An end that is 1 where both are, or None where only a gate tells it."""
+    low = min(a, b)
+    high = max(a, b)
+    if low == 0 or low ^ 1 == high:
+        return 0
+    if low == 1 or low == high:
+        return high
+    return None
 
 
 def placed(places, end):

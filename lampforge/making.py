@@ -4,6 +4,7 @@ from lampforge.bench import Bench
 from lampforge.looks import order_of
 from lampforge.spread import spread
 from lampforge.sums import choice_row, less_row, same_end, sum_row, table_row, turned, under_end
+from lampforge.words import bits_of
 
 
 def made(plan):
@@ -34,15 +35,6 @@ def ends_of_ins(ports, bench):
         ends[name] = [bench.into(place) for place in range(used, used + width)]
         used = used + width
     return ends
-
-
-def bits_of(number, width):
-    """The bits of a number of a width, the lowest first."""
-    bits = []
-    for place in range(width):
-        bits.append(number % 2)
-        number = number // 2
-    return bits
 
 
 def row_of(saying, ends, bench):

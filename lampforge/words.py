@@ -64,3 +64,12 @@ def two_to(many):
 def is_number(thing, width):
     """Whether a thing is a number of a width, and the width is one."""
     return is_width(width) and is_between(thing, 0, two_to(width) - 1)
+
+
+def bits_of(number, width):
+    """The bits of a number of a width, the lowest first."""
+    bits = []
+    for place in range(width):
+        bits.append(number % 2)
+        number = number // 2
+    return bits
