@@ -108,7 +108,7 @@ def meet(one, other, most):
             return ("part", [bits_of(number, one[0]) for number in numbers])
         for number, later in told[1]:
             if later not in came:
-                if len(joints) == most:
+                if len(joints) >= most:
                     return ("open", most)
                 came[later] = (joint, number)
                 joints.append(later)

@@ -48,7 +48,8 @@ def row_below(work, within, knot):
         gate = waiting.pop()
         knots.append(gate)
         for end in work[2][gate - first]:
-            if end % 2 == 0 and within[end // 2]:
+            # One that lies within has this place alone, and is unturned here.
+            if within[end // 2]:
                 waiting.append(end // 2)
             else:
                 under.append(end)

@@ -17,7 +17,8 @@ def spread(plan):
 
 def brings_rows(part, parts):
     """Whether a row that asks for a part brings any row, `parts` being those ahead that do."""
-    if len(part[1]) > 0 or len(part[2]) > 0:
+    # Outs need not be looked at: what drives them brings rows.
+    if len(part[1]) > 0:
         return True
     return any([row[0] in ("wire", "box") or row[-3] in parts for row in part[3]])
 

@@ -118,6 +118,20 @@ class MeetTest(unittest.TestCase):
         self.assertEqual(self.meets(one, one)[0], "alike")
         self.assertEqual(len(self.meets(one, one)[1]), 8)
 
+    def test_partings_whose_beats_stand_in_one_order_alone(self):
+        # Out is 1 where the last beats had a told pattern.
+        for many in (1, 2, 3, 4):
+            for pattern in itertools.product((0, 1), repeat=many):
+                boxes = [(0, 2 * (1 + place)) for place in range(many)]
+                ends = [2 * (2 + place) + 1 - bit for place, bit in enumerate(reversed(pattern))]
+                gates = [(ends[0], 1)] + [(2 * (many + 2 + at), end) for at, end in enumerate(ends[1:])]
+                one = (1, boxes, gates, [2 * (many + 1 + many)])
+                told = self.meets(one, (1, [], [], [0]))
+                self.assertEqual(told[0], "part")
+                if 1 in pattern:
+                    from_first_high = list(pattern[pattern.index(1):])
+                    self.assertEqual([beat[0] for beat in told[1][:-1]], from_first_high)
+
     def test_mosts(self):
         one = (1, [(0, 2), (0, 4), (0, 6)], [], [8])
         for most in (8, 9, 500):
@@ -221,6 +235,14 @@ class TableTest(unittest.TestCase):
             for place in range(2):
                 self.table(self.TABLE[:place] + [wrong] + self.TABLE[place + 1:], False)
                 self.table(self.TABLE[:place] + [wrong] + self.TABLE[place:], False)
+
+    def test_boxes_that_nothing_reads(self):
+        work = (0, [(0, 0)], [], [1])
+        self.assertIs(is_table(work, work, [((0,), (0,))]), True)
+        self.assertIs(is_table(work, work, [((0,), (0,)), ((1,), (0,))]), True)
+        for bit in (2, -1, True, None, "1", 10 ** 59):
+            self.assertIs(is_table(work, work, [((0,), (0,)), ((bit,), (0,))]), False)
+            self.assertIs(is_table(work, work, [((0,), (0,)), ((0,), (bit,))]), False)
 
     def test_things_that_are_no_list(self):
         for thing in ODD + (0, tuple(self.TABLE), "table", {}):

@@ -1,7 +1,7 @@
 """The package keeps to the small part of Python that the project is written in, as far as is looked at here.
 
-Not looked at are L11, L13, L26 and L28, and of L15, L17 to L19, L22 to L24 and L27 only what a single
-statement or value shows: these are for the reader.
+Not looked at is L11, and of L15, L17 to L19, L22, L23 and L27 only what a single statement or value
+shows: these are for the reader.
 """
 
 import ast
@@ -33,6 +33,11 @@ KEYWORDS = {"sorted": {"key", "reverse"}, "min": {"key", "default"}, "max": {"ke
             "enumerate": {"start"}, "zip": {"strict"}}
 UNDERSCORED = {"__init__", "__eq__", "__repr__", "__str__", "__len__"}
 LAZY = ("zip", "enumerate", "reversed", "range")
+LAZY_METHODS = ("items", "keys", "values")
+WALKERS = ("list", "tuple", "dict", "sorted", "sum", "any", "all", "enumerate", "zip")
+OWN_VALUES = set("count index title find get join lower upper split strip copy add".split())
+TAKEN = {name for kind in (str, int, list, dict, set, bytes, tuple, bool) for name in dir(kind)}
+CHECKED = ("int", "str", "bool", "list", "tuple", "dict")
 
 
 def faults_of_text(text):
@@ -195,17 +200,75 @@ def faults_of_call(node, methods, above):
     if isinstance(node.func, ast.Attribute):
         if node.func.attr not in OWN_METHODS | methods | {"__init__"}:
             return [f"L25 row {node.lineno}: the method {node.func.attr}"]
+        if node.func.attr in LAZY_METHODS and not is_walked(node, above):
+            return [f"L23 row {node.lineno}: {node.func.attr} is kept"]
         return []
     if not isinstance(node.func, ast.Name):
         return []
     name = node.func.id
     if name in OWN_NAMES and {word.arg for word in node.keywords} - KEYWORDS.get(name, set()):
         return [f"L22 row {node.lineno}: a keyword"]
-    if name in LAZY and not isinstance(above, (ast.For, ast.comprehension, ast.Call)):
+    if name in LAZY and not is_walked(node, above):
         return [f"L23 row {node.lineno}: {name} is kept"]
-    if name in ("set", "frozenset") and not isinstance(above, (ast.Compare, ast.Call, ast.BinOp)):
+    if name in ("set", "frozenset") and not is_set_place(above):
         return [f"L24 row {node.lineno}: a set is kept"]
+    if name == "isinstance" and not is_kind(node.args[1]):
+        return [f"L22 row {node.lineno}: another kind"]
     return []
+
+
+def is_walked(node, above):
+    """Whether a call of what is walked stands where it is walked on the spot."""
+    if isinstance(above, (ast.For, ast.comprehension)):
+        return above.iter is node
+    if not isinstance(above, ast.Call) or not above.args or above.args[0] is not node:
+        return False
+    if isinstance(above.func, ast.Name):
+        return above.func.id in WALKERS or above.func.id in ("min", "max") and len(above.args) == 1
+    return isinstance(above.func, ast.Attribute) and above.func.attr == "join" and isinstance(above.func.value, ast.Constant)
+
+
+def is_set_place(above):
+    """Whether a set may stand within a node: beside in, == and !=, or straight within sorted and len."""
+    if isinstance(above, ast.Compare):
+        return all(isinstance(op, (ast.In, ast.NotIn, ast.Eq, ast.NotEq)) for op in above.ops)
+    return (isinstance(above, ast.Call) and isinstance(above.func, ast.Name) and above.func.id in ("sorted", "len")
+            and not above.keywords)
+
+
+def is_kind(node):
+    """Whether a node may be asked for by isinstance: a kind of Python's own, or a class by its capital letter."""
+    if isinstance(node, ast.Tuple):
+        return all(is_kind(piece) for piece in node.elts)
+    return isinstance(node, ast.Name) and (node.id in CHECKED or node.id[0].isupper())
+
+
+def faults_of_object(node):
+    """Faults in the names of a class's methods and values, and in its __init__."""
+    faults = []
+    for thing in node.body:
+        if isinstance(thing, ast.FunctionDef):
+            if thing.name in TAKEN and thing.name not in OWN_METHODS | UNDERSCORED | {"add", "discard"}:
+                faults.append(f"L26 row {thing.lineno}: the method {thing.name}")
+            if thing.name == "__init__" and any(isinstance(piece, ast.Return) for piece in ast.walk(thing)):
+                faults.append(f"L28 row {thing.lineno}: __init__ gives something back")
+    for piece in ast.walk(node):
+        if isinstance(piece, ast.Attribute) and isinstance(piece.ctx, ast.Store):
+            if piece.attr in TAKEN | {"args"} and piece.attr not in OWN_VALUES:
+                faults.append(f"L26 row {piece.lineno}: the value {piece.attr}")
+    return faults
+
+
+def faults_of_lambdas(tree):
+    """Faults of lambdas with the same parameters on one row."""
+    seen, faults = set(), []
+    for node in ast.walk(tree):
+        if isinstance(node, ast.Lambda):
+            mark = (node.lineno, tuple(argument.arg for argument in node.args.args))
+            if mark in seen:
+                faults.append(f"L13 row {node.lineno}: two lambdas alike")
+            seen.add(mark)
+    return faults
 
 
 def faults_of_statement(node):
@@ -226,7 +289,7 @@ def faults_of_statement(node):
 def faults_of(text, methods=frozenset()):
     """All faults found in the text of a file, `methods` being those of the package's classes."""
     tree = ast.parse(text)
-    faults = faults_of_text(text) + faults_of_top(tree) + faults_of_names(tree)
+    faults = faults_of_text(text) + faults_of_top(tree) + faults_of_names(tree) + faults_of_lambdas(tree)
     above = {child: node for node in ast.walk(tree) for child in ast.iter_child_nodes(node)}
     for node in ast.walk(tree):
         if not isinstance(node, STATEMENTS + VALUES + OTHERS):
@@ -234,7 +297,7 @@ def faults_of(text, methods=frozenset()):
         if isinstance(node, (ast.FunctionDef, ast.Lambda)):
             faults.extend(faults_of_def(node))
         if isinstance(node, ast.ClassDef):
-            faults.extend(faults_of_class(node))
+            faults.extend(faults_of_class(node) + faults_of_object(node))
         if isinstance(node, ast.ImportFrom):
             faults.extend(faults_of_import(node))
         if isinstance(node, ast.Call):
@@ -321,7 +384,9 @@ class FaultTest(unittest.TestCase):
                   "try:\n        f()\n    except Exception:\n        pass", "x = f'{a + 1}'", "x = '%'", "_x = 1",
                   "x = [k for k in a for m in k]", "x = sorted(*a)", "import sys", "x = (y := a)", "yield a",
                   "type = 1", "x = 'caf\u00e9'", "for x in a:\n        pass\n    else:\n        pass", "a == 1",
-                  "x = str(a, encoding='b')", "x = unknown", "x = '" + "a" * 120 + "'")
+                  "x = str(a, encoding='b')", "x = unknown", "x = '" + "a" * 120 + "'", "x = len(zip(a, b))",
+                  "x = zip(a, range(b))", "x = a in range(b)", "x = a.items()", "x = sorted(set(a), key=len)",
+                  "x = list(set(a))", "x = isinstance(a, set)", "x = (lambda k: k)(a) + (lambda k: k)(b)")
         for body in bodies:
             with self.subTest(body):
                 self.assertNotEqual(faults_of("def f(a, b):\n    " + body + "\n"), [])
@@ -330,7 +395,10 @@ class FaultTest(unittest.TestCase):
         texts = ("import os\n", "from os import path\n", "from lampforge import words\n", "A = [1]\nA = [2]\n",
                  "A = [[1]]\n", "A = f()\n", "print(1)\n", "class C:\n    x = 1\n", "def f(*a):\n    pass\n",
                  "def f():\n" + "    pass\n" * 40, "A = 1\n" * 401, "from lampforge.words import *\n",
-                 "@f\ndef g():\n    pass\n", "def f(a=[[1]]):\n    pass\n", "def f(a: int):\n    pass\n")
+                 "@f\ndef g():\n    pass\n", "def f(a=[[1]]):\n    pass\n", "def f(a: int):\n    pass\n",
+                 "class C:\n    def sort(self):\n        pass\n", "class C:\n    def f(self):\n        self.args = 1\n",
+                 "class C:\n    def __init__(self):\n        return None\n",
+                 "class C:\n    def f(self):\n        self.real = 1\n")
         for text in texts:
             with self.subTest(text[:40]):
                 self.assertNotEqual(faults_of(text), [])

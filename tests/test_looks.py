@@ -311,6 +311,22 @@ class SizeTest(unittest.TestCase):
             top = filler(12, more)
             self.size([low, swapped(top, 3, (part,) + top[3])], 26 + more > 200)
 
+    def test_parts_of_unlike_many_ins_and_outs(self):
+        for ins, outs in ((0, 3), (3, 0), (1, 5), (5, 1), (8, 8)):
+            low = ("low", tuple(("i" + "abcdefgh"[at], 1) for at in range(ins)), tuple(("o" + "abcdefgh"[at], 1) for at in range(outs)),
+                   tuple(wire_row("o" + "abcdefgh"[at], HIGH) for at in range(outs)))
+            row = ("part", "u", "low", (HIGH,) * ins, tuple("n" + "abcdefgh"[at] for at in range(outs)))
+            mid = ("mid", (), (), (row,))
+            for copies in range(1, 9):
+                for more in range(0, 20):
+                    times = ("times", copies, "t", "mid", (), ())
+                    top = filler(more, more)
+                    self.size([low, mid, swapped(top, 3, (times,) + top[3])], copies * (ins + 2 * outs) + more > 60)
+            told = ins + 2 * outs
+            for more in range(198 - told, 204 - told):
+                top = filler(18, more)
+                self.size([low, swapped(top, 3, (row,) + top[3])], told + more > 200)
+
     def test_parts_that_are_not_asked_for(self):
         self.size([filler(20, 600, "low"), filler(3, 3)], False)
         self.size([filler(20, 600, "low"), filler(20, 600, "two"), filler(20, 200)], False)

@@ -83,6 +83,12 @@ class LowTest(unittest.TestCase):
             ends = [2 * (1 + at % 64) for at in range(many)]
             work = (64, [], chained(ends, 64), [2 * (64 + many - 1)])
             self.lows(work, False)
+        # Of ends that are all unlike: ins and boxes.
+        for many in (64, 65, 66, 100):
+            ends = [2 * knot for knot in range(1, many + 1)]
+            new = self.lows((60, [(1, 3)] * (many - 60), chained(ends, 60, many - 60), [2 * (2 * many - 1)]), False)
+            if many == 64:
+                self.assertEqual(depths_of(new)[new[3][0] // 2], 6)
         # Such a row over one that can be made lower.
         ends = [2 * knot for knot in range(1, 9)]
         gates = chained(ends, 8)

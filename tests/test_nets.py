@@ -45,6 +45,14 @@ class NetTest(unittest.TestCase):
                          [0, 1, 14, 15, 16, 17, 19, 18, 6, 7, 2, 3, 1, 0, 24, 25, 26, 27, 28, 29])
         self.assertEqual(next_net(WORK), (8, [(2, 7), (18, 9), (21, 1), (14, 18), (24, 7), (27, 1)]))
 
+    def test_the_lists_are_the_askers_own(self):
+        for ask in (now_net, start_net, next_net):
+            first = ask(WORK)
+            kept = copy.deepcopy(first)
+            first[1].clear()
+            self.assertEqual(ask(WORK), kept)
+            self.assertEqual(len(WORK[2]), 3)
+
     def test_nothing(self):
         bare = (0, [], [], [])
         self.assertEqual((now_net(bare), start_net(bare), next_net(bare)), ((0, []), (0, []), (0, [])))

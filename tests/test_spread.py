@@ -89,6 +89,31 @@ class SpreadTest(unittest.TestCase):
             wire_row("f.o", HIGH), wire_row("a", wired("f.o")), wire_row("s.i", A), wire_row("s.w", wired("s.i")),
             wire_row("t.0.i", A), wire_row("t.1.i", wired("t.0.i")), wire_row("b", wired("t.1.i"))])
 
+    def test_ins_alone(self):
+        sink = ("sink", (("i", 3), ("j", 1)), (), ())
+        top = ("top", (("a", 3),), (), (("part", "s", "sink", (A, HIGH), ()),))
+        self.spreads([sink, top], [("a", 3)], [], [wire_row("s.i", A, 3), wire_row("s.j", HIGH)])
+        mid = ("mid", (), (), (("part", "s", "sink", (("number", 5, 3), HIGH), ()),))
+        top = ("top", (), (), (("times", 2, "m", "mid", (), ()),))
+        self.spreads([sink, mid, top], [], [], [
+            wire_row("m.0.s.i", ("number", 5, 3), 3), wire_row("m.0.s.j", HIGH),
+            wire_row("m.1.s.i", ("number", 5, 3), 3), wire_row("m.1.s.j", HIGH)])
+
+    def test_outs_alone_through_parts(self):
+        low = ("low", (), (("o", 1),), (wire_row("o", HIGH),))
+        mid = ("mid", (), (("p", 1),), (("part", "l", "low", (), ("p",)),))
+        top = ("top", (), (("q", 1),), (("part", "m", "mid", (), ("q",)),))
+        self.spreads([low, mid, top], [], [("q", 1)], [wire_row("m.l.o", HIGH), wire_row("m.p", wired("m.l.o")),
+                                                       wire_row("q", wired("m.p"))])
+
+    def test_rows_alone_within_parts(self):
+        for row in (wire_row("w", HIGH), ("box", "w", 1, 0, HIGH)):
+            low = ("low", (), (), (row,))
+            mid = ("mid", (), (), (("times", 2, "l", "low", (), ()), ("part", "n", "none", (), ())))
+            top = ("top", (), (), (("part", "m", "mid", (), ()), ("times", 2, "n", "none", (), ())))
+            self.spreads([low, ("none", (), (), ()), mid, top], [], [],
+                         [(row[0], f"m.l.{copy}.w") + row[2:] for copy in range(2)])
+
     def test_copies_without_ins_and_outs(self):
         low = ("low", (), (), (("box", "o", 1, 1, HIGH),))
         self.spreads([low, ("top", (), (), (("times", 3, "t", "low", (), ()),))], [], [],
