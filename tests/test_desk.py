@@ -34,6 +34,13 @@ def filled():
     return desk
 
 
+def used():
+    """A desk with a paper too."""
+    desk = filled()
+    desk.say("pass g a moved")
+    return desk
+
+
 class DeskTest(unittest.TestCase):
     def refuses(self, desk, text, kind, **values):
         """Whether a text is refused, and changes nothing."""
@@ -186,12 +193,12 @@ class RefusalTest(DeskTest):
     def test_no_text(self):
         for thing in ODD + (0, ["show a"], ("show", "a")):
             if thing != "":
-                self.refuses(filled(), thing, NoRow)
-                self.refuses(filled(), nested(thing, 2), NoRow)
+                self.refuses(used(), thing, NoRow)
+                self.refuses(used(), nested(thing, 2), NoRow)
 
     def test_another_first_word(self):
         for text in ("", " ", "\n", "shows a", "Show a", "SHOW a", "a", "make", "forge a", "\nshow a", " show a", "open a", "heard a", "ok"):
-            self.refuses(filled(), text, NoRow)
+            self.refuses(used(), text, NoRow)
 
     def test_words_too_few_and_too_many(self):
         for text in ("make", "work", "show", "size", "run", "pass", "pass x", "pass x a", "look", "look a", "meet", "meet a", "meet a b",
@@ -199,15 +206,15 @@ class RefusalTest(DeskTest):
                      "meet a b 500 c", "show  a", "show a ", " show a", "pass x a ", "pass x a  heard", "paper ", "look a  b", "look a b ",
                      "meet a b ", "meet a b  5", "run a ", "make a ", "work a ", "size a ", "pass x  heard", "pass  a heard"):
             for behind in ("", "\n", "\n" + TEXT):
-                self.refuses(filled(), text + behind, NoRow)
+                self.refuses(used(), text + behind, NoRow)
 
     def test_names(self):
         for name in ("A", "a1", "abcdefghi", "and", "wire", "table", "a.b", "1", "a-", "=", "number"):
             for text in (f"make {name}\n{PLAN}", f"work {name}\n{TEXT}", f"show {name}", f"size {name}", f"run {name}", f"run {name}\n1",
                          f"pass {name} a heard", f"pass x {name} heard", f"look {name} a", f"look a {name}", f"meet {name} a 5",
                          f"meet a {name} 5"):
-                self.refuses(filled(), text, NoRow)
-        desk = filled()
+                self.refuses(used(), text, NoRow)
+        desk = used()
         for name in ("make", "paper", "ins", "abcdefgh", "heard", "ok", "run"):
             self.assertEqual(desk.say(f"work {name}\n{TEXT}"), "ok")
             self.assertEqual(desk.say(f"pass {name} {name} heard"), "ok")
@@ -215,56 +222,56 @@ class RefusalTest(DeskTest):
 
     def test_mosts(self):
         for most in ("0", "501", "01", "0500", "-1", "+1", "a", "1.0", "", "1000000000", "5 0", "00", "999999999"):
-            self.refuses(filled(), "meet a b " + most, NoRow)
-            self.refuses(filled(), "meet x y " + most, NoRow)
+            self.refuses(used(), "meet a b " + most, NoRow)
+            self.refuses(used(), "meet x y " + most, NoRow)
         for most in ("1", "2", "10", "499", "500"):
-            self.assertIn(filled().say("meet a b " + most), ("alike 4", "open"))
+            self.assertIn(used().say("meet a b " + most), ("alike 4", "open"))
 
     def test_a_line_end_where_nothing_is_due(self):
         for text in ("show a", "size a", "pass x a heard", "meet a b 500", "paper"):
             for behind in ("\n", "\n" + TEXT, "\n\n", "\nx"):
-                desk = filled()
+                desk = used()
                 desk.say("pass y a moved")
                 self.refuses(desk, text + behind, NoRow)
 
     def test_rows_ahead_of_texts_and_names(self):
         for text in ("make A\nx", "work A\nx", "run A\nx", "look A x\nx", "look x A\nx", "pass A x other", "meet x y 0", "show A", "look x\nx"):
-            self.refuses(filled(), text, NoRow)
+            self.refuses(used(), text, NoRow)
 
     def test_texts_behind(self):
         for text in ("make x", "make x\n", "make x\nx", "make x\n" + PLAN + "\n", "make x\npart a", "make x\n" + TEXT, "work x", "work x\n",
                      "work x\nx", "work x\n" + TEXT + "\n", "work x\nins 0\nout 2", "work x\n" + PLAN, "run a\nx", "run a\n2", "run a\n1\nx",
                      "run a\n1 ", "run a\n1\n ", "look a b\nx", "look a b\nkept", "look a b\nkept 0 0\n", "look a b\n\n", "make a\nx",
                      "look a b\nnow other 0 0 :"):
-            self.refuses(filled(), text, NoText)
+            self.refuses(used(), text, NoText)
 
     def test_texts_ahead_of_names(self):
         for text in ("run x\nx", "run x\n1\n2", "run x\n1 1", "look x y\nx", "look x y\nkept 0", "look a y\nkept 0", "look y a\nkept 0"):
-            self.refuses(filled(), text, NoText)
+            self.refuses(used(), text, NoText)
 
     def test_names_that_do_not_stand(self):
         for text in ("show x", "size x", "run x", "run x\n", "run x\n1", "run x\n\n1\n1111", "pass y x heard", "pass a x heard", "look x a",
                      "look a x", "look x y", "look x c\nkept 0 0", "meet x a 5", "meet a x 5", "meet x y 500", "look x d"):
-            self.refuses(filled(), text, NoName, part="x", name="x")
+            self.refuses(used(), text, NoName, part="x", name="x")
 
     def test_names_ahead_of_what_is_refused_later(self):
         # How many signs a beat has; another word of a pass; works that are no pair.
         for text in ("run x\n11111\n1", "pass y x other", "look x c", "look d x\nkept 900 900", "meet d x 5", "meet x c 5"):
-            self.refuses(filled(), text, NoName, part="x", name="x")
+            self.refuses(used(), text, NoName, part="x", name="x")
 
     def test_how_many_signs(self):
         for text in ("run a\n", "run a\n11", "run a\n1\n11", "run a\n1\n\n1", "run a\n1\n", "run c\n1", "run c\n111", "run c\n11\n1", "run e\n1",
                      "run e\n0\n", "run d\n111111", "run d\n11111111"):
-            self.refuses(filled(), text, NoText)
-        self.assertEqual(filled().say("run d\n1111111"), "1")
+            self.refuses(used(), text, NoText)
+        self.assertEqual(used().say("run d\n1111111"), "1")
 
     def test_other_words_of_passes(self):
         for word in ("other", "Heard", "hear", "heards", "a", "known,", "pass", "1"):
-            self.refuses(filled(), "pass x a " + word, NoWord)
-            self.refuses(filled(), "pass a a " + word, NoWord)
+            self.refuses(used(), "pass x a " + word, NoWord)
+            self.refuses(used(), "pass a a " + word, NoWord)
 
     def test_what_the_looker_refuses(self):
-        desk = filled()
+        desk = used()
         for text, kind, values in (
                 ("part a\nend\npart a\nend", NoName, {"part": "a", "name": "a"}),
                 ("part a\nin x 1\nin x 1\nend", Twice, {"part": "a", "name": "x"}),
@@ -279,8 +286,8 @@ class RefusalTest(DeskTest):
 
     def test_works_that_are_no_pair(self):
         for text in ("look a c", "look c a\nkept 900 900", "look c d", "meet a c 500", "meet c a 1", "meet d c 500", "meet d d 500", "look e a"):
-            self.refuses(filled(), text, NoPair)
-        self.assertEqual(filled().say("look d d"), "yes")
+            self.refuses(used(), text, NoPair)
+        self.assertEqual(used().say("look d d"), "yes")
 
 
 class WholeTest(unittest.TestCase):
