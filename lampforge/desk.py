@@ -1,9 +1,9 @@
 """The desk: works kept by names, told and asked by texts."""
 
 from lampforge.beats import run
-from lampforge.errors import NoName, NoPaper, NoRow, NoText
+from lampforge.errors import NoName, NoPaper, NoRow, NoText, NoWord
 from lampforge.figures import is_figures
-from lampforge.forge import forge
+from lampforge.forge import WORDS, passed
 from lampforge.joint import meet
 from lampforge.looks import look
 from lampforge.making import made
@@ -94,9 +94,13 @@ class Desk:
 
     def pass_work(self, new, old, word):
         """Lets the work that a pass makes of another stand by a name."""
-        told = forge(self.work_by(old), word)[0]
-        self.last_paper = told[2]
-        return self.keep_work(new, told[1])
+        work = self.work_by(old)
+        # Not left to rows of passes: there the text without signs is a row of none, here it is another word.
+        if word not in WORDS:
+            raise NoWord("there is no such pass")
+        both = passed(work, word)
+        self.last_paper = both[1]
+        return self.keep_work(new, both[0])
 
     def show_paper(self):
         """The text of the paper of the last pass."""
@@ -131,4 +135,5 @@ def is_fit(word, kind):
         return is_name(word)
     if kind == "most":
         return is_figures(word) and is_between(int(word), 1, MOST_MEETING)
-    return word != ""
+    # Another word than the six, the one without signs too, is no fault of the row: it is refused behind the names.
+    return True

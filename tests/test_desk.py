@@ -203,8 +203,9 @@ class RefusalTest(DeskTest):
     def test_words_too_few_and_too_many(self):
         for text in ("make", "work", "show", "size", "run", "pass", "pass x", "pass x a", "look", "look a", "meet", "meet a", "meet a b",
                      "make a b", "work a b", "show a b", "size a b", "run a b", "pass x a heard low", "paper a", "look a b c",
-                     "meet a b 500 c", "show  a", "show a ", " show a", "pass x a ", "pass x a  heard", "paper ", "look a  b", "look a b ",
-                     "meet a b ", "meet a b  5", "run a ", "make a ", "work a ", "size a ", "pass x  heard", "pass  a heard"):
+                     "meet a b 500 c", "show  a", "show a ", " show a", "pass x a  ", "pass x a  heard", "pass x a heard ",
+                     "pass  a ", "pass x  ", "paper ", "look a  b", "look a b ", "meet a b ", "meet a b  5", "run a ", "make a ",
+                     "work a ", "size a ", "pass x  heard", "pass  a heard"):
             for behind in ("", "\n", "\n" + TEXT):
                 self.refuses(used(), text + behind, NoRow)
 
@@ -228,14 +229,15 @@ class RefusalTest(DeskTest):
             self.assertIn(used().say("meet a b " + most), ("alike 4", "open"))
 
     def test_a_line_end_where_nothing_is_due(self):
-        for text in ("show a", "size a", "pass x a heard", "meet a b 500", "paper"):
+        for text in ("show a", "size a", "pass x a heard", "pass x a ", "pass x a other", "meet a b 500", "paper"):
             for behind in ("\n", "\n" + TEXT, "\n\n", "\nx"):
                 desk = used()
                 desk.say("pass y a moved")
                 self.refuses(desk, text + behind, NoRow)
 
     def test_rows_ahead_of_texts_and_names(self):
-        for text in ("make A\nx", "work A\nx", "run A\nx", "look A x\nx", "look x A\nx", "pass A x other", "meet x y 0", "show A", "look x\nx"):
+        for text in ("make A\nx", "work A\nx", "run A\nx", "look A x\nx", "look x A\nx", "pass A x other", "pass A x ",
+                     "pass x A ", "meet x y 0", "show A", "look x\nx"):
             self.refuses(used(), text, NoRow)
 
     def test_texts_behind(self):
@@ -256,7 +258,8 @@ class RefusalTest(DeskTest):
 
     def test_names_ahead_of_what_is_refused_later(self):
         # How many signs a beat has; another word of a pass; works that are no pair.
-        for text in ("run x\n11111\n1", "pass y x other", "look x c", "look d x\nkept 900 900", "meet d x 5", "meet x c 5"):
+        for text in ("run x\n11111\n1", "pass y x other", "pass y x ", "pass a x ", "look x c",
+                     "look d x\nkept 900 900", "meet d x 5", "meet x c 5"):
             self.refuses(used(), text, NoName, part="x", name="x")
 
     def test_how_many_signs(self):
@@ -266,9 +269,11 @@ class RefusalTest(DeskTest):
         self.assertEqual(used().say("run d\n1111111"), "1")
 
     def test_other_words_of_passes(self):
-        for word in ("other", "Heard", "hear", "heards", "a", "known,", "pass", "1"):
-            self.refuses(used(), "pass x a " + word, NoWord)
-            self.refuses(used(), "pass a a " + word, NoWord)
+        for word in ("other", "Heard", "hear", "heards", "a", "known,", "pass", "1", "", "heard,low"):
+            for desk in (filled(), used()):
+                self.refuses(desk, "pass x a " + word, NoWord)
+                self.refuses(desk, "pass a a " + word, NoWord)
+                self.refuses(desk, "pass a x " + word, NoName, part="x", name="x")
 
     def test_what_the_looker_refuses(self):
         desk = used()
